@@ -3,6 +3,9 @@ package syntax
 // Set is a set of bytes, a bit for each of them.
 type Set [4]uint64
 
+// Has tells whether the byte is in the set.
+func (s Set) Has(b byte) bool { return s[b/64]>>(b%64)&1 == 1 }
+
 // span is the set of the bytes from low up to high, with both. It counts in
 // ints, since a byte that has reached 255 would never get past it.
 func span(low, high byte) Set {

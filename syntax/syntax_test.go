@@ -5,12 +5,10 @@ import (
 	"testing"
 )
 
-func has(s Set, b int) bool { return s[b/64]>>(b%64)&1 == 1 }
-
 func bytesOf(s Set) []byte {
 	var list []byte
 	for b := range 256 {
-		if has(s, b) {
+		if s.Has(byte(b)) {
 			list = append(list, byte(b))
 		}
 	}
