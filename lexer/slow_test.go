@@ -3,6 +3,7 @@ package lexer_test
 import (
 	"fmt"
 	"regexp"
+	"slices"
 	"strings"
 	"testing"
 	"unicode/utf8"
@@ -13,7 +14,10 @@ import (
 // slow is a second way to cut texts, to hold Lex against: it writes each rule
 // as one of the library's regular expressions, and asks all of them anew at
 // every place. A byte is the rune of the same number there.
-type slow struct{ rules []*regexp.Regexp }
+type slow struct {
+	rules []*regexp.Regexp
+	begun []*regexp.Regexp // match a whole text of which more could come
+}
 
 func newSlow(t testing.TB, src string) slow {
 	t.Helper()
@@ -21,23 +25,42 @@ func newSlow(t testing.TB, src string) slow {
 	for line := range strings.SplitSeq(strings.TrimSuffix(src, "\n"), "\n") {
 		_, match, _ := strings.Cut(line, "=")
 		w := rewriter{src: match}
-		rule, err := regexp.Compile(`\A(?:` + w.either() + `)`)
+		out := w.either()
+		rule, err := regexp.Compile(`\A(?:` + out.whole + `)`)
 		if err != nil || w.at != len(match) {
 			t.Fatalf("%q is not written anew: %v", line, err)
 		}
 		rule.Longest()
 		s.rules = append(s.rules, rule)
+		s.begun = append(s.begun, regexp.MustCompile(`\A(?:`+out.begun+`)\z`))
 	}
 	return s
 }
 
-func (s slow) lex(text string) []api.Token {
+// widen writes each byte as the rune of its number.
+func widen(text string) string {
 	var wide strings.Builder
 	for i := range len(text) {
 		wide.WriteRune(rune(text[i]))
 	}
+	return wide.String()
+}
+
+// settled is the tokens that are settled when so much of a text has come.
+func (s slow) settled(text string) []api.Token {
+	tokens := s.lex(text)
+	for i, token := range tokens {
+		wide := widen(text[token.From:])
+		if slices.ContainsFunc(s.begun, func(begun *regexp.Regexp) bool { return begun.MatchString(wide) }) {
+			return tokens[:i]
+		}
+	}
+	return tokens
+}
+
+func (s slow) lex(text string) []api.Token {
 	var tokens []api.Token
-	left := wide.String()
+	left := widen(text)
 	for at := 0; at < len(text); {
 		rule, size := s.longest(left)
 		for range size {
@@ -75,32 +98,53 @@ func (w *rewriter) next(bytes string) bool {
 	return w.at < len(w.src) && strings.IndexByte(bytes, w.src[w.at]) >= 0
 }
 
-func (w *rewriter) either() string {
-	out := ""
-	for w.at < len(w.src) && !w.next(")") {
-		if w.next("|") {
-			out += string(w.take())
-			continue
-		}
-		atom := w.atom()
-		for w.next("*+?") {
-			atom = "(?:" + atom + ")" + string(w.take())
-		}
-		out += atom
+// written is what a rule matches, and what of that may have come while more of
+// it is to come.
+type written struct{ whole, begun string }
+
+func group(inner string) string { return "(?:" + inner + ")" }
+
+func (w *rewriter) either() written {
+	out := w.row()
+	for w.next("|") {
+		w.take()
+		row := w.row()
+		out = written{out.whole + "|" + row.whole, out.begun + "|" + row.begun}
 	}
 	return out
 }
 
-func (w *rewriter) atom() string {
+func (w *rewriter) row() written {
+	out := w.marked()
+	for w.at < len(w.src) && !w.next("|)") {
+		atom := w.marked()
+		out = written{out.whole + atom.whole, out.begun + "|" + out.whole + group(atom.begun)}
+	}
+	return out
+}
+
+func (w *rewriter) marked() written {
+	out := w.atom()
+	for w.next("*+?") {
+		mark := string(w.take())
+		if mark != "?" {
+			out.begun = group(out.whole) + "*" + group(out.begun)
+		}
+		out.whole = group(out.whole) + mark
+	}
+	return out
+}
+
+func (w *rewriter) atom() written {
 	if w.next(".") {
 		w.take()
-		return `[^\n]`
+		return written{whole: `[^\n]`}
 	}
 	if w.next("(") {
 		w.take()
 		inner := w.either()
 		w.take()
-		return "(?:" + inner + ")"
+		return written{group(inner.whole), inner.begun}
 	}
 	if w.next("[") {
 		out := string(w.take())
@@ -111,9 +155,9 @@ func (w *rewriter) atom() string {
 			}
 			out += w.single()
 		}
-		return out + string(w.take())
+		return written{whole: out + string(w.take())}
 	}
-	return w.single()
+	return written{whole: w.single()}
 }
 
 func (w *rewriter) single() string {

@@ -126,7 +126,11 @@ func (p *Plan) step(from Set, b byte) Set {
 // Back is the atoms by which the byte b leads on to the end of a rule, right
 // behind b or later. Of the text behind b it asks the same, in later.
 func (p *Plan) Back(b byte, later Set) Set {
-	goal := later.union(p.ends)
+	return p.Into(b, later.union(p.ends))
+}
+
+// Into is the atoms by which the byte b leads to one of the goal's numbers.
+func (p *Plan) Into(b byte, goal Set) Set {
 	var leading Set
 	for atom := range p.match[b].atoms() {
 		if p.next[atom].Meets(goal) {

@@ -14,6 +14,9 @@ type Set [2]uint64
 // The ends of rules have a word of their own, behind that of the atoms.
 const firstEnd = 64
 
+// Atoms is the set of all atoms there could be.
+func Atoms() Set { return Set{1<<firstEnd - 1} }
+
 func (s Set) with(number int) Set {
 	s[number/64] |= 1 << (number % 64)
 	return s
@@ -35,6 +38,10 @@ func (s Set) Meets(other Set) bool {
 	}
 	return false
 }
+
+// GoesOn tells whether a byte could come next. Each atom matches some byte, and
+// from each there is a way to the end of its rule: so a rule could end later.
+func (s Set) GoesOn() bool { return s.Meets(Atoms()) }
 
 // Rule is the first rule that may end here, or -1.
 func (s Set) Rule() int {

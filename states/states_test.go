@@ -91,6 +91,36 @@ func TestPlanOfRepeats(t *testing.T) {
 	}
 }
 
+func TestGoesOn(t *testing.T) {
+	for number := range firstEnd + 8 {
+		if setOf(number).GoesOn() != (number < firstEnd) || !setOf(number, 5).GoesOn() {
+			t.Errorf("%d goes on: %v", number, setOf(number).GoesOn())
+		}
+	}
+	if (Set{}).GoesOn() || !Atoms().GoesOn() || Atoms().Rule() != -1 {
+		t.Errorf("nothing goes on: %v, all atoms: %v", Set{}.GoesOn(), Atoms().GoesOn())
+	}
+}
+
+func TestInto(t *testing.T) {
+	p := planOf(t, "a=xyz\nb=xx*")
+	if got := p.Into('x', Atoms()); got != setOf(0, 3, 4) {
+		t.Errorf("x goes on by %v", got)
+	}
+	if got := p.Into('x', setOf(1)); got != setOf(0) {
+		t.Errorf("x leads to y by %v", got)
+	}
+	if got := p.Into('z', Atoms()); got != (Set{}) {
+		t.Errorf("z goes on by %v", got)
+	}
+	if got := p.Into('z', setOf(firstEnd)); got != setOf(2) {
+		t.Errorf("z leads to the end of a by %v", got)
+	}
+	if p.Into('y', Set{}) != (Set{}) || p.Into('w', Atoms()) != (Set{}) {
+		t.Error("something leads where nothing does")
+	}
+}
+
 func TestBack(t *testing.T) {
 	p := planOf(t, "a=xyz\nb=xx*")
 	none := p.Back('y', Set{})
@@ -142,7 +172,9 @@ func TestTableStepsAsThePlan(t *testing.T) {
 				if got != p.step(from, b) {
 					t.Fatalf("from %v by %q to %v, want %v", from, b, got, p.step(from, b))
 				}
-				met[got]++
+				if got != (Set{}) {
+					met[got]++
+				}
 				if table.Held() != min(room, len(met)) {
 					t.Fatalf("%d states are held with room %d, %d were met", table.Held(), room, len(met))
 				}
@@ -163,5 +195,17 @@ func TestTableRemembers(t *testing.T) {
 	p.next[0] = Set{}
 	if got := table.Step(table.First(), 'x'); got != behind || behind == (Set{}) {
 		t.Errorf("asked again, x leads to %v, not to %v", got, behind)
+	}
+}
+
+// What leads nowhere takes no room from states.
+func TestTableDoesNotHoldTheEmptySet(t *testing.T) {
+	table := NewTable(planOf(t, "a=x+y"), 2)
+	first := table.First()
+	if got := table.Step(first, 'w'); got != (Set{}) || table.Held() != 1 {
+		t.Errorf("w leads to %v, and %d states are held", got, table.Held())
+	}
+	if table.Step(first, 'x'); table.Held() != 2 {
+		t.Errorf("%d states are held, not 2", table.Held())
 	}
 }

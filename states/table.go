@@ -53,9 +53,10 @@ func (t *Table) Step(from Set, b byte) Set {
 
 // hold keeps a state while there is room. None has to leave for another: so
 // how many are held does not hang on who asks first, and a state without a
-// place in the table is soon worked out again.
+// place in the table is soon worked out again. The empty one is none: nothing
+// is ever asked from there.
 func (t *Table) hold(state Set) {
-	if t.held[state] == nil && len(t.held) < t.room {
+	if state != (Set{}) && t.held[state] == nil && len(t.held) < t.room {
 		t.held[state] = &row{}
 	}
 }
